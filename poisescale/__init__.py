@@ -1,0 +1,1 @@
+"""Poisescale: whole numbers told by weights in two pans."""
