@@ -32,6 +32,18 @@ def lay_at(form, place):
     return form[place] if place < len(form) else 0
 
 
+def carry_of(number):
+    # Python rounds down below nought too, so what is left, number - 3 * carry, is always -1, 0 or 1.
+    return (number + 1) // 3
+
+
+def without_last_noughts(lays):
+    length = len(lays)
+    while length > 0 and lays[length - 1] == 0:
+        length = length - 1
+    return lays[:length]
+
+
 def number_of(form):
     require_form(form)
     number = 0
@@ -60,8 +72,7 @@ def form_of(number):
     lays = []
     rest = number
     while rest != 0:
-        # What is left over by 3 is 0, 1 or 2 also below nought, so one more ahead and one less behind make it a lay.
-        lay = (rest + 1) % 3 - 1
-        lays.append(lay)
-        rest = (rest - lay) // 3
+        carry = carry_of(rest)
+        lays.append(rest - 3 * carry)
+        rest = carry
     return lays

@@ -1,4 +1,4 @@
-"""What the tests hand in: forms, things that are no forms, numbers, things that are no numbers."""
+"""What the tests hand in: forms, numbers, texts, numbers of places, and things that are none of these."""
 
 import copy
 import enum
@@ -141,6 +141,31 @@ def no_numbers():
     return odd_kinds() + [[], [0], [1], [-1, 0, 1], [8], [True]]
 
 
+def no_places():
+    return odd_kinds() + [[], [0], [1], [-1, 0, 1], -1, -2, -3, -2000, -10 ** 949, -10 ** 5000]
+
+
+def other_signs():
+    """Every sign from the blank to ~ that writes no lay; the percent sign is never handed in."""
+    return [sign for sign in map(chr, range(ord(" "), ord("~") + 1)) if sign not in "<.>%"]
+
+
+def texts_that_write_no_form():
+    found = ["", "..", "...", ".>", ".<", ".>.<", "..<", ".<.", "[]", "[-1, 0, 1]", "-1", "None"]
+    for sign in other_signs():
+        found.extend([sign, sign + ">", ">" + sign, ">" + sign + "<", sign + ".", "." + sign, "<>" + sign + sign])
+    found.extend(["." * 2000, "." + ">" * 1999, "." * 1999 + "<", "x" + ">" * 1999, "<" * 1999 + "x"])
+    found.append(">" * 1000 + " " + "<" * 999)
+    return found
+
+
+def no_texts():
+    """Whatever is no text, and each text that writes no form."""
+    kinds = [thing for thing in odd_kinds() if not isinstance(thing, str)]
+    lists = [[], [1], [-1, 0, 1], [">"], [">", ".", "<"], (">", ".", "<"), b">.<", bytearray(b"."), {">": 1}]
+    return kinds + lists + [0, 1, -1, 8, 10 ** 949] + texts_that_write_no_form()
+
+
 def assert_refused(case, refusal, deed, *handed):
     """The deed is refused with this class alone, and leaves the lists handed in as they were."""
     before = [copy.copy(thing) if isinstance(thing, list) else None for thing in handed]
@@ -155,6 +180,55 @@ def assert_refused(case, refusal, deed, *handed):
     for thing, was in zip(handed, before):
         if was is not None:
             case.assertEqual([id(part) for part in thing], [id(part) for part in was])
+
+
+def assert_both_are_asked_to_be_forms(case, deed):
+    """Whatever is no form is refused with NoForm at either argument, and at both."""
+    for place, thing in enumerate(no_forms()):
+        with case.subTest(deed=deed.__name__, place=place):
+            for form in ([], [1], [-1, 0, 1]):
+                assert_refused(case, NoForm, deed, thing, form)
+                assert_refused(case, NoForm, deed, form, thing)
+            assert_refused(case, NoForm, deed, thing, thing)
+
+
+def assert_own_of_each_pair(case, deed, forms):
+    for one in forms:
+        assert_own(case, deed, one, one)
+        for other in forms:
+            assert_own(case, deed, one, list(other))
+
+
+def assert_own(case, deed, *handed):
+    """What is handed in stays, and no list that is told is met anywhere else: each is new and the asker's own."""
+    kept = unshared(handed)
+    first = deed(*handed)
+    wanted = unshared(first)
+    second = deed(*handed)
+    case.assertEqual((handed, second), (kept, wanted))
+    told = lists_within(first) + lists_within(second)
+    case.assertEqual(len({id(part) for part in told}), len(told))
+    case.assertFalse({id(part) for part in told} & {id(part) for part in lists_within(handed)})
+    for part in lists_within(first):
+        part.append("mine")
+        part.reverse()
+    case.assertEqual((handed, second, deed(*handed)), (kept, wanted, wanted))
+
+
+def unshared(answer):
+    """A copy in which no list stands twice, though it may have stood twice in the answer."""
+    if isinstance(answer, list):
+        return [unshared(part) for part in answer]
+    return tuple(unshared(part) for part in answer) if isinstance(answer, tuple) else answer
+
+
+def lists_within(answer):
+    """The lists that an answer is made of, itself and what lies in its lists and tuples."""
+    found = [answer] if isinstance(answer, list) else []
+    if isinstance(answer, (list, tuple)):
+        for part in answer:
+            found.extend(lists_within(part))
+    return found
 
 
 def assert_plain_int(case, thing):

@@ -49,6 +49,22 @@ def walked():
             yield path.name, node
 
 
+def called(node):
+    """The name of Python's own or the method that is called here, or None."""
+    if not isinstance(node, ast.Call):
+        return None
+    return node.func.id if isinstance(node.func, ast.Name) else node.func.attr
+
+
+def walked_on_the_spot(node, parent):
+    """Whether what can be walked once stands where it is walked at once."""
+    if isinstance(parent, (ast.For, ast.comprehension)):
+        return parent.iter is node
+    if called(parent) in ("list", "tuple", "dict", "sorted", "sum", "any", "all", "enumerate", "zip"):
+        return parent.args[0] is node
+    return called(parent) in ("min", "max") and parent.args == [node]
+
+
 def bound_names(tree):
     found = set()
     for node in ast.walk(tree):
@@ -115,6 +131,31 @@ class Code(unittest.TestCase):
                 self.assertEqual(len(node.targets), 1, (name, node.lineno))
             elif isinstance(node, ast.Compare) and isinstance(node.ops[0], (ast.Is, ast.IsNot)):
                 self.assertIsInstance(node.comparators[0], ast.Constant, (name, node.lineno))
+
+    def test_an_assignment_gives_one_name_or_place(self):
+        for name, node in walked():
+            if isinstance(node, ast.Assign):
+                self.assertIsInstance(node.targets[0], (ast.Name, ast.Subscript, ast.Attribute), (name, node.lineno))
+
+    def test_what_can_be_walked_once_is_walked_at_once(self):
+        once = ("zip", "enumerate", "reversed", "range", "items", "keys", "values")
+        for name, parent in walked():
+            for node in ast.iter_child_nodes(parent):
+                if called(node) in once:
+                    self.assertTrue(walked_on_the_spot(node, parent), (name, node.lineno))
+
+    def test_no_power_but_a_small_written_one(self):
+        for name, node in walked():
+            if isinstance(node, (ast.BinOp, ast.AugAssign)) and isinstance(node.op, ast.Pow):
+                power = node.right if isinstance(node, ast.BinOp) else node.value
+                self.assertIsInstance(power, ast.Constant, (name, node.lineno))
+                self.assertIn(power.value, range(65), (name, node.lineno))
+
+    def test_a_comprehension_has_one_for_and_at_most_one_if(self):
+        for name, node in walked():
+            if isinstance(node, ast.ListComp):
+                self.assertEqual(len(node.generators), 1, (name, node.lineno))
+                self.assertLessEqual(len(node.generators[0].ifs), 1, (name, node.lineno))
 
     def test_an_expression_by_itself_is_a_call_or_the_docstring(self):
         for path, words in modules():

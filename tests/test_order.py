@@ -177,12 +177,7 @@ class BothOfTwoForms(unittest.TestCase):
 
     def test_no_form_is_refused_at_either_argument(self):
         for deed in (parting, heavier):
-            for place, thing in enumerate(samples.no_forms()):
-                with self.subTest(deed=deed.__name__, place=place):
-                    for form in ([], [1], [-1, 0, 1]):
-                        samples.assert_refused(self, NoForm, deed, thing, form)
-                        samples.assert_refused(self, NoForm, deed, form, thing)
-                    samples.assert_refused(self, NoForm, deed, thing, thing)
+            samples.assert_both_are_asked_to_be_forms(self, deed)
 
     def test_the_number_agrees_with_the_order_after_turning(self):
         found = samples.short_forms(3)
